@@ -1,0 +1,1 @@
+"""Stovework: an evening out of one kitchen, planned, judged and bought for."""

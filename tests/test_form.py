@@ -1,0 +1,122 @@
+"""Holds the package's files against the rules of the language that can be read off a file."""
+
+import ast
+import builtins
+import pathlib
+import re
+import unittest
+
+PACKAGE = pathlib.Path(__file__).resolve().parent.parent / "stovework"
+
+OWN_NAMES = set(
+    "len range enumerate zip min max sum abs sorted reversed int str bool list tuple dict set frozenset isinstance "
+    "ord repr any all divmod Exception ValueError TypeError KeyError IndexError LookupError ZeroDivisionError "
+    "ArithmeticError OverflowError RuntimeError NotImplementedError AttributeError StopIteration".split()
+)
+
+STATEMENTS = (
+    ast.FunctionDef,
+    ast.ClassDef,
+    ast.ImportFrom,
+    ast.Assign,
+    ast.AugAssign,
+    ast.If,
+    ast.While,
+    ast.For,
+    ast.Return,
+    ast.Break,
+    ast.Continue,
+    ast.Pass,
+    ast.Raise,
+    ast.Try,
+    ast.Expr,
+)
+
+LEFT_OUT = (
+    ast.Div,
+    ast.MatMult,
+    ast.SetComp,
+    ast.DictComp,
+    ast.GeneratorExp,
+    ast.NamedExpr,
+    ast.Starred,
+    ast.Yield,
+    ast.YieldFrom,
+    ast.Await,
+)
+
+WORDS = re.compile(
+    r"\b(type|typing|typing_extensions|enum|Enum|IntEnum|StrEnum|Flag|IntFlag|Generic|Protocol|ABC|ABCMeta"
+    r"|namedtuple|NamedTuple|TypedDict|TYPE_CHECKING|abstractmethod)\b|dataclass|overload|contextmanager"
+)
+
+
+def files():
+    return sorted(path for path in PACKAGE.rglob("*") if path.is_file() and "__pycache__" not in path.parts)
+
+
+def trees():
+    return [(path.name, ast.parse(path.read_text())) for path in files()]
+
+
+def nodes():
+    return [(name, node) for name, tree in trees() for node in ast.walk(tree)]
+
+
+class Form(unittest.TestCase):
+    def test_the_folder_holds_plain_python_files(self):
+        self.assertIn(PACKAGE / "__init__.py", files())
+        for path in files():
+            self.assertEqual(path.parent, PACKAGE)
+            self.assertRegex(path.name, r"^(__init__|[a-z][a-z0-9_]*)\.py$")
+
+    def test_signs_words_and_sizes(self):
+        for path in files():
+            text = path.read_text()
+            with self.subTest(file=path.name):
+                self.assertRegex(text, r"\A[ -~\n]*\n\Z")
+                self.assertIsNone(WORDS.search(text))
+                self.assertLessEqual(len(text.splitlines()), 400)
+                self.assertLessEqual(max(len(row) for row in text.splitlines()), 120)
+
+    def test_functions_are_small(self):
+        for name, node in nodes():
+            if isinstance(node, ast.FunctionDef):
+                self.assertLessEqual(node.end_lineno - node.lineno + 1, 40, (name, node.name))
+
+    def test_statements_and_expressions(self):
+        for name, node in nodes():
+            with self.subTest(file=name, line=getattr(node, "lineno", 0)):
+                if isinstance(node, ast.stmt):
+                    self.assertIsInstance(node, STATEMENTS)
+                self.assertNotIsInstance(node, LEFT_OUT)
+                if isinstance(node, ast.Constant):
+                    self.assertIn(type(node.value), (int, str, bool, type(None)))
+                if isinstance(node, ast.Assign):
+                    self.assertEqual(len(node.targets), 1)
+                if isinstance(node, (ast.For, ast.While)):
+                    self.assertEqual(node.orelse, [])
+
+    def test_imports_are_of_the_package_alone(self):
+        for name, node in nodes():
+            if isinstance(node, ast.ImportFrom):
+                with self.subTest(file=name, line=node.lineno):
+                    self.assertEqual(node.level, 0)
+                    self.assertRegex(node.module, r"^stovework\.[a-z0-9_]+$")
+                    self.assertTrue((PACKAGE / (node.module.split(".")[1] + ".py")).is_file())
+
+    def test_names(self):
+        python_names = set(dir(builtins)) - OWN_NAMES
+        for name, node in nodes():
+            if isinstance(node, ast.Name):
+                with self.subTest(file=name, line=node.lineno):
+                    self.assertNotIn(node.id, python_names)
+                    self.assertFalse(node.id.startswith("_"))
+                    if isinstance(node.ctx, ast.Store):
+                        self.assertNotIn(node.id, dir(builtins))
+            if isinstance(node, ast.arg):
+                self.assertNotIn(node.arg, dir(builtins), (name, node.lineno))
+
+
+if __name__ == "__main__":
+    unittest.main()
