@@ -45,6 +45,12 @@ LEFT_OUT = (
     ast.Await,
 )
 
+METHODS = set(
+    "append clear copy count endswith extend find get index insert isalnum isalpha isdigit islower isspace isupper "
+    "items join keys ljust lower lstrip partition pop remove replace reverse rfind rjust rpartition rsplit rstrip "
+    "setdefault split splitlines startswith strip update upper values zfill bit_length".split()
+)
+
 WORDS = re.compile(
     r"\b(type|typing|typing_extensions|enum|Enum|IntEnum|StrEnum|Flag|IntFlag|Generic|Protocol|ABC|ABCMeta"
     r"|namedtuple|NamedTuple|TypedDict|TYPE_CHECKING|abstractmethod)\b|dataclass|overload|contextmanager"
@@ -61,6 +67,15 @@ def trees():
 
 def nodes():
     return [(name, node) for name, tree in trees() for node in ast.walk(tree)]
+
+
+def own_methods():
+    classes = [node for name, node in nodes() if isinstance(node, ast.ClassDef)]
+    return {part.name for node in classes for part in node.body if isinstance(part, ast.FunctionDef)}
+
+
+def drawn_from(tree):
+    return {node.module.split(".")[1] for node in ast.walk(tree) if isinstance(node, ast.ImportFrom)}
 
 
 class Form(unittest.TestCase):
@@ -104,6 +119,32 @@ class Form(unittest.TestCase):
                     self.assertEqual(node.level, 0)
                     self.assertRegex(node.module, r"^stovework\.[a-z0-9_]+$")
                     self.assertTrue((PACKAGE / (node.module.split(".")[1] + ".py")).is_file())
+
+    def test_no_two_files_draw_from_one_another(self):
+        left = {name[: -len(".py")]: drawn_from(tree) for name, tree in trees()}
+        while left:
+            free = [name for name in left if not left[name] & set(left)]
+            self.assertNotEqual(free, [], left)
+            left = {name: left[name] for name in left if name not in free}
+
+    def test_is_stands_beside_none_true_and_false_alone(self):
+        for name, node in nodes():
+            if isinstance(node, ast.Compare):
+                for sign, right in zip(node.ops, node.comparators):
+                    if isinstance(sign, (ast.Is, ast.IsNot)):
+                        self.assertIn(ast.unparse(right), ("None", "True", "False"), (name, node.lineno))
+
+    def test_methods(self):
+        allowed = METHODS | own_methods()
+        for name, node in nodes():
+            if isinstance(node, ast.Call) and isinstance(node.func, ast.Attribute):
+                self.assertIn(node.func.attr, allowed, (name, node.lineno))
+
+    def test_no_name_is_a_method_and_a_value(self):
+        values = {
+            node.attr for name, node in nodes() if isinstance(node, ast.Attribute) and isinstance(node.ctx, ast.Store)
+        }
+        self.assertEqual(values & own_methods(), set())
 
     def test_names(self):
         python_names = set(dir(builtins)) - OWN_NAMES

@@ -1,7 +1,7 @@
 import inspect
 import unittest
 
-from stovework import packs, ratios, wholes
+from stovework import amounts, larders, names, packs, parts, ratios, stands, wholes
 
 SIGNATURES = (
     (wholes.is_whole, "(thing)"),
@@ -16,6 +16,21 @@ SIGNATURES = (
     (ratios.round_up, "(one)"),
     (ratios.round_down, "(one)"),
     (packs.packs_for, "(need, size, have=None)"),
+    (amounts.amount_text, "(amount)"),
+    (amounts.read_amount, "(text)"),
+    (names.is_name, "(thing)"),
+    (parts.all_inside, "(parts, good)"),
+    (parts.chain_down, "(parts, good, goals)"),
+    (stands.ways_out, "(stands, good)"),
+    (larders.Larder, "()"),
+    (larders.Larder.part, "(self, good, other)"),
+    (larders.Larder.stand, "(self, good, other, ratio=None)"),
+    (larders.Larder.bar, "(self, good)"),
+    (larders.Larder.allow, "(self, good)"),
+    (larders.Larder.known, "(self)"),
+    (larders.Larder.held, "(self, good)"),
+    (larders.Larder.barred, "(self, good)"),
+    (larders.Larder.stand_in, "(self, good)"),
 )
 
 
