@@ -1,7 +1,7 @@
 import inspect
 import unittest
 
-from stovework import amounts, larders, names, packs, parts, ratios, stands, wholes
+from stovework import amounts, dishes, larders, names, packs, parts, ratios, reader, recipes, rows, stands, steps, wholes
 
 SIGNATURES = (
     (wholes.is_whole, "(thing)"),
@@ -31,6 +31,23 @@ SIGNATURES = (
     (larders.Larder.held, "(self, good)"),
     (larders.Larder.barred, "(self, good)"),
     (larders.Larder.stand_in, "(self, good)"),
+    (steps.Step, "(name, least, most, uses=None, second=None)"),
+    (steps.Cut, "(name, least, most, uses=None, second=None)"),
+    (steps.Rest, "(name, least, most, uses=None, second=None)"),
+    (steps.Warm, "(name, least, most, fill, uses=None, second=None)"),
+    (steps.Step.word, "(self)"),
+    (steps.Step.span, "(self, least, most, factor)"),
+    (steps.Step.rounds, "(self, factor, size)"),
+    (steps.Step.grown, "(self, factor)"),
+    (recipes.Recipe, "(name, plates, takes, steps, links)"),
+    (recipes.recipe_text, "(recipe)"),
+    (rows.words_of, "(row)"),
+    (rows.number_of, "(word, low, high)"),
+    (reader.read_recipe, "(text)"),
+    (dishes.factor_of, "(recipe, plates)"),
+    (dishes.tasks_of, "(recipe, plates, size=None)"),
+    (dishes.links_of, "(recipe, tasks)"),
+    (dishes.plates_of, "(recipe, tasks)"),
 )
 
 

@@ -1,0 +1,77 @@
+"""What several of the tests need: steps and recipes as plain values, and a recipe by chance."""
+
+from fractions import Fraction
+
+from stovework.recipes import Recipe
+from stovework.steps import Cut, Rest, Warm
+
+
+def step_shown(step):
+    second = step.second
+    if second is not None:
+        second = (second[0], second[1], list(second[2]))
+    fill = step.fill if isinstance(step, Warm) else None
+    return (type(step).__name__, step.name, step.least, step.most, fill, list(step.uses), second)
+
+
+def recipe_shown(recipe):
+    steps = [step_shown(step) for step in recipe.steps]
+    return (recipe.name, recipe.plates, list(recipe.takes), steps, list(recipe.links))
+
+
+def chance_name(chance):
+    return "".join(chance.choice("abz") for _ in range(chance.choice((1, 2, 12))))
+
+
+def chance_names(chance, many):
+    names = []
+    while len(names) < many:
+        name = chance_name(chance)
+        if name not in names:
+            names.append(name)
+    return names
+
+
+def chance_amount(chance):
+    high = chance.choice((3, 100, 10**30 - 1))
+    amount = Fraction(chance.randint(1, high), chance.choice((1, 2, 7, high)))
+    return (amount.numerator, amount.denominator)
+
+
+def chance_lengths(chance):
+    least = chance.choice((1, 2, 50, 100000))
+    return (least, chance.choice((least, min(100000, least + 3), 100000)))
+
+
+def chance_uses(chance, most):
+    names = chance_names(chance, chance.randint(0, most))
+    return [(name, chance.randint(1, 8), chance.choice((0, 1, 180, 1000))) for name in names]
+
+
+def chance_step(chance, name, most_uses):
+    least, most = chance_lengths(chance)
+    second = None
+    if chance.random() < 0.5:
+        second = (*chance_lengths(chance), chance_uses(chance, most_uses))
+    rest = (chance_uses(chance, most_uses), second)
+    kind = chance.choice((Cut, Rest, Warm))
+    if kind is Warm:
+        return Warm(name, least, most, chance_amount(chance), *rest)
+    return kind(name, least, most, *rest)
+
+
+def chance_link(chance, many):
+    word = chance.choice(("after", "within", "apart"))
+    at, other = chance.sample(range(many), 2)
+    turns = chance.choice((0, 1, 50, 100000)) if word == "within" else 0
+    return (word, at, other, turns)
+
+
+def chance_recipe(chance, most=12):
+    """A recipe within all bounds of its text."""
+    takes = [(name, chance_amount(chance)) for name in chance_names(chance, chance.randint(0, most))]
+    steps = [chance_step(chance, name, most) for name in chance_names(chance, chance.randint(0, most))]
+    links = []
+    if len(steps) > 1:
+        links = [chance_link(chance, len(steps)) for _ in range(chance.randint(0, 2 * most))]
+    return Recipe(chance_name(chance), chance.choice((1, 2, 999, 1000)), takes, steps, links)
