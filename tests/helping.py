@@ -1,7 +1,9 @@
-"""What several of the tests need: steps and recipes as plain values, and a recipe by chance."""
+"""What several of the tests need: steps, recipes and nets as plain values, and recipes, nets and plans by chance."""
 
+import copy
 from fractions import Fraction
 
+from stovework.nets import Net
 from stovework.recipes import Recipe
 from stovework.steps import Cut, Rest, Warm
 
@@ -75,3 +77,46 @@ def chance_recipe(chance, most=12):
     if len(steps) > 1:
         links = [chance_link(chance, len(steps)) for _ in range(chance.randint(0, 2 * most))]
     return Recipe(chance_name(chance), chance.choice((1, 2, 999, 1000)), takes, steps, links)
+
+
+def net_shown(net):
+    return copy.deepcopy((net.tools, net.tasks, net.arcs, net.apart, net.moments))
+
+
+def chance_way(chance, tools):
+    least = chance.randint(1, 4)
+    names = chance.sample(sorted(tools), chance.randint(0, len(tools)))
+    uses = [(name, chance.randint(1, tools[name]), chance.choice((0, 0, 5))) for name in names]
+    return (least, least + chance.randint(0, 3), uses)
+
+
+def chance_net(chance, most_tasks=4):
+    """A small net, with few tools and short ways, so that plans by chance both fit and don't."""
+    tools = {name: chance.randint(1, 3) for name in chance.sample(["pot", "axe", "oven"], chance.randint(0, 3))}
+    tasks = []
+    for _ in range(chance.randint(0, most_tasks)):
+        tasks.append([chance_way(chance, tools) for _ in range(chance.choice((1, 1, 2)))])
+    moments = chance.choice((0, 0, 1, 2))
+    points = 2 * len(tasks) + moments
+    arcs = []
+    if points > 0:
+        for _ in range(chance.choice((0, 0, 1, 4))):
+            arcs.append((chance.randrange(points), chance.randrange(points), chance.randint(-9, 1)))
+    apart = []
+    if len(tasks) > 1:
+        apart = [tuple(chance.sample(range(len(tasks)), 2)) for _ in range(chance.choice((0, 0, 1, 2)))]
+    return Net(tools, tasks, arcs, apart, moments)
+
+
+def chance_plan(chance, net, latest=12):
+    """A plan of the net whose lengths are mostly those of its ways."""
+    runs = []
+    for ways in net.tasks:
+        way = chance.randrange(len(ways))
+        begin = chance.randint(-1 if chance.random() < 0.1 else 0, latest)
+        length = chance.randint(ways[way][0], ways[way][1])
+        if chance.random() < 0.05:
+            length = chance.randint(-2, 9)
+        runs.append((begin, begin + length, way))
+    times = [chance.randint(-1 if chance.random() < 0.1 else 0, latest + 6) for _ in range(net.moments)]
+    return (runs, times)

@@ -1,7 +1,8 @@
 import inspect
 import unittest
 
-from stovework import amounts, dishes, larders, names, packs, parts, ratios, reader, recipes, rows, stands, steps, wholes
+from stovework import amounts, dishes, heaps, larders, names, needs, nets, packs, parts, plans, ratios, reader, recipes
+from stovework import rosters, rows, stands, steps, wholes
 
 SIGNATURES = (
     (wholes.is_whole, "(thing)"),
@@ -48,6 +49,22 @@ SIGNATURES = (
     (dishes.tasks_of, "(recipe, plates, size=None)"),
     (dishes.links_of, "(recipe, tasks)"),
     (dishes.plates_of, "(recipe, tasks)"),
+    (needs.chosen, "(recipe, larder)"),
+    (needs.needs_of, "(dishes, larder)"),
+    (needs.bought_of, "(needed, sizes, shelf=None)"),
+    (nets.Net, "(tools, tasks, arcs, apart=None, moments=0)"),
+    (nets.points_of, "(net)"),
+    (plans.is_plan, "(net, plan)"),
+    (plans.time_of, "(plan, point)"),
+    (plans.runs_meet, "(one, other)"),
+    (plans.breaches, "(net, plan)"),
+    (plans.plan_fits, "(net, plan)"),
+    (plans.length_of, "(plan)"),
+    (heaps.Heap, "(rows=None)"),
+    (heaps.Heap.add, "(self, thing)"),
+    (heaps.Heap.take_least, "(self)"),
+    (heaps.Heap.many, "(self)"),
+    (rosters.roster, "(net, plan)"),
 )
 
 
