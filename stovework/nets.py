@@ -33,6 +33,14 @@ def points_of(net):
     return 2 * len(net.tasks) + net.moments
 
 
+# Whether all of these whole numbers, perhaps none, are points of the net.
+def are_points(net, some):
+    for point in some:
+        if not 0 <= point < points_of(net):
+            return False
+    return True
+
+
 # The use of the tool in this way, None where the way doesn't use it.
 def use_in(way, tool):
     for use in way[2]:

@@ -1,4 +1,5 @@
-"""What several of the tests need: steps, recipes and nets as plain values, and recipes, nets and plans by chance."""
+"""What several of the tests need: steps, recipes and nets as plain values; recipes, nets, plans and cases by chance;
+and the words of some promises, reckoned otherwise than by the program."""
 
 import copy
 from fractions import Fraction
@@ -120,3 +121,44 @@ def chance_plan(chance, net, latest=12):
         runs.append((begin, begin + length, way))
     times = [chance.randint(-1 if chance.random() < 0.1 else 0, latest + 6) for _ in range(net.moments)]
     return (runs, times)
+
+
+def chance_case(chance, net):
+    """A case of the net, with some ways picked and few orders."""
+    picks = [chance.choice((None, chance.randrange(len(ways)))) for ways in net.tasks]
+    orders = []
+    if len(net.tasks) > 1:
+        orders = [tuple(chance.sample(range(len(net.tasks)), 2)) for _ in range(chance.choice((0, 0, 1, 2)))]
+    return (picks, orders)
+
+
+def total_by_words(arcs, chain):
+    """A chain's total, arc by arc."""
+    total = 0
+    for k in range(len(chain) - 1):
+        lags = [arc[2] for arc in arcs if arc[:2] == (chain[k], chain[k + 1])]
+        if not lags:
+            return None
+        total += sorted(lags)[-1]
+    return total
+
+
+def simple_chains(arcs, chain):
+    """This chain and all that go on from it, without a point twice."""
+    found = [chain]
+    for point in sorted({arc[1] for arc in arcs if arc[0] == chain[-1]} - set(chain)):
+        found.extend(simple_chains(arcs, chain + [point]))
+    return found
+
+
+def all_chains(points, arcs):
+    """All chains of one point or more, without a point twice."""
+    return [chain for point in range(points) for chain in simple_chains(arcs, [point])]
+
+
+def has_ring_above_0(points, arcs):
+    for chain in all_chains(points, arcs):
+        total = total_by_words(arcs, chain + chain[:1])
+        if total is not None and total > 0:
+            return True
+    return False

@@ -1,8 +1,8 @@
 import inspect
 import unittest
 
-from stovework import amounts, dishes, heaps, larders, names, needs, nets, packs, parts, plans, ratios, reader, recipes
-from stovework import rosters, rows, stands, steps, wholes
+from stovework import amounts, cases, chains, clashes, dishes, heaps, larders, names, needs, nets, packs, papers, parts
+from stovework import plans, ratios, reader, recipes, rosters, rows, stands, steps, stretches, wholes
 
 SIGNATURES = (
     (wholes.is_whole, "(thing)"),
@@ -65,6 +65,26 @@ SIGNATURES = (
     (heaps.Heap.take_least, "(self)"),
     (heaps.Heap.many, "(self)"),
     (rosters.roster, "(net, plan)"),
+    (chains.lag_between, "(arcs, p, q)"),
+    (chains.chain_total, "(arcs, chain)"),
+    (chains.ring_total, "(arcs, ring)"),
+    (chains.earliest_times, "(points, arcs)"),
+    (chains.tail_chains, "(points, arcs)"),
+    (cases.start_case, "(net)"),
+    (cases.open_ways, "(net, case, i)"),
+    (cases.obeys, "(case, plan)"),
+    (cases.arcs_of, "(net, case)"),
+    (cases.want_of, "(net, case, i, tool)"),
+    (cases.work_of, "(net, case, i, tool)"),
+    (cases.unlike_heats, "(net, case, i, j)"),
+    (stretches.stretch_total, "(net, case, tool, fronts, backs)"),
+    (stretches.best_stretch, "(net, case)"),
+    (clashes.clashes, "(net, case, some)"),
+    (papers.parted, "(net, case, row)"),
+    (papers.bound_of, "(net, case, row)"),
+    (papers.shuts, "(net, case, low, row)"),
+    (papers.lets_by, "(net, low, paper)"),
+    (papers.inner_rows, "(paper)"),
 )
 
 
