@@ -14,7 +14,10 @@ def lag_between(arcs, p, q):
 
 
 def chain_total(arcs, chain):
-    lags = greatest_lags(arcs)
+    return total_by(greatest_lags(arcs), chain)
+
+
+def total_by(lags, chain):
     total = 0
     for p, q in zip(chain, chain[1:]):
         if (p, q) not in lags:

@@ -1,10 +1,9 @@
 """Reads a recipe from its text."""
 
-from stovework.amounts import read_amount
-from stovework.errors import NoAmount, NoRow, NoStep, TooMany, Twice
-from stovework.names import is_name
+from stovework.errors import NoRow, NoStep, TooMany, Twice
+from stovework.forms import values_by
 from stovework.recipes import Recipe
-from stovework.rows import number_of, words_of
+from stovework.rows import words_of
 from stovework.steps import Cut, Rest, Warm
 
 MOST_TAKES = 12
@@ -25,15 +24,6 @@ FORMS = {
     "after": ("name", "name"),
     "within": ("name", "name", "turns"),
     "apart": ("name", "name"),
-}
-
-# The least and the greatest of each kind of number.
-BOUNDS = {
-    "plates": (1, 1000),
-    "length": (1, 100000),
-    "many": (1, 8),
-    "heat": (0, 1000),
-    "turns": (0, 100000),
 }
 
 STEP_WORDS = ("cut", "rest", "warm")
@@ -66,32 +56,10 @@ def values_of(row):
     words = words_of(row)
     if words is None or words[0] not in FORMS:
         return None
-    fields = FORMS[words[0]]
-    if len(words) != 1 + len(fields):
-        return None
-    values = [words[0]]
-    for field, word in zip(fields, words[1:]):
-        values.append(value_of(field, word))
-    if None in values or not agree(values):
+    values = values_by(FORMS[words[0]], words)
+    if values is None or not agree(values):
         return None
     return values
-
-
-def value_of(field, word):
-    if field == "name":
-        return word if is_name(word) else None
-    if field == "amount":
-        return amount_above_nought(word)
-    bounds = BOUNDS[field]
-    return number_of(word, bounds[0], bounds[1])
-
-
-def amount_above_nought(word):
-    try:
-        amount = read_amount(word)
-    except NoAmount:
-        return None
-    return amount if amount[0] > 0 else None
 
 
 # What no value tells by itself: a most length is not below its least one, no step is linked with itself.

@@ -1,7 +1,7 @@
 """Stretches of a tool: tasks that share it, with a chain to the begin of each and a chain from its end."""
 
 from stovework.cases import arcs_of, work_of
-from stovework.chains import chain_total, earliest_times, tail_chains
+from stovework.chains import earliest_times, greatest_lags, tail_chains, total_by
 from stovework.nets import are_points, points_of
 
 
@@ -9,9 +9,9 @@ def stretch_total(net, case, tool, fronts, backs):
     tasks = tasks_between(net, fronts, backs)
     if tool not in net.tools or tasks is None:
         return None
-    arcs = arcs_of(net, case)
-    heads = [chain_total(arcs, chain) for chain in fronts]
-    tails = [chain_total(arcs, chain) for chain in backs]
+    lags = greatest_lags(arcs_of(net, case))
+    heads = [total_by(lags, chain) for chain in fronts]
+    tails = [total_by(lags, chain) for chain in backs]
     if None in heads or None in tails:
         return None
     work = sum([work_of(net, case, i, tool) for i in tasks])
@@ -52,7 +52,8 @@ def best_stretch(net, case):
         return None
     best = None
     for tool in sorted(net.tools):
-        users = users_of(net, case, tool, heads[0], tails[0])
+        works = [work_of(net, case, i, tool) for i in range(len(net.tasks))]
+        users = users_of(works, heads[0], tails[0])
         fullest = fullest_of(users, net.tools[tool])
         if fullest is not None and (best is None or fullest[0] > best[0]):
             best = (fullest[0], tool, fullest[1])
@@ -63,11 +64,10 @@ def best_stretch(net, case):
     return (best[0], best[1], fronts, backs)
 
 
-# The tasks with work of the tool, as tuples (sum of the tail, time of the begin, work, task), the greatest tails first.
-def users_of(net, case, tool, times, sums):
+# The tasks with work, as tuples (sum of the tail, time of the begin, work, task), the greatest tails first.
+def users_of(works, times, sums):
     users = []
-    for i in range(len(net.tasks)):
-        work = work_of(net, case, i, tool)
+    for i, work in enumerate(works):
         if work > 0:
             users.append((sums[2 * i + 1], times[2 * i], work, i))
     return sorted(users, reverse=True)
@@ -80,12 +80,13 @@ def fullest_of(users, many):
     best = None
     for floor in sorted(set([user[1] for user in users])):
         work = 0
-        tasks = []
         for user in users:
             if user[1] >= floor:
                 work += user[2]
-                tasks.append(user[3])
                 total = floor + user[0] + turns_for(work, many)
                 if best is None or total > best[0]:
-                    best = (total, list(tasks))
-    return best
+                    best = (total, floor, user)
+    if best is None:
+        return None
+    # The users lie falling: those up to the last of the stretch are those that are not less.
+    return (best[0], [user[3] for user in users if user[1] >= best[1] and user >= best[2]])

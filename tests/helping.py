@@ -2,6 +2,7 @@
 and the words of some promises, reckoned otherwise than by the program."""
 
 import copy
+import itertools
 from fractions import Fraction
 
 from stovework.nets import Net
@@ -162,3 +163,125 @@ def has_ring_above_0(points, arcs):
         if total is not None and total > 0:
             return True
     return False
+
+
+def tight_net(chance, most_tasks, moments=True):
+    """A small net in which runs have little room, so that now and then nothing fits."""
+    net = chance_net(chance, most_tasks)
+    points = 2 * len(net.tasks) + (net.moments if moments else 0)
+    arcs = [arc for arc in net.arcs if max(arc[:2]) < points]
+    if points > 1:
+        for _ in range(chance.randint(0, 4)):
+            arcs.append((*chance.sample(range(points), 2), chance.randint(-4, 2)))
+    return Net(net.tools, net.tasks, arcs, net.apart, net.moments if moments else 0)
+
+
+def ways_by_words(net, case, i):
+    ways = net.tasks[i]
+    return ways if case[0][i] is None else [ways[case[0][i]]]
+
+
+def arcs_by_words(net, case):
+    """The arcs of a case, as a dict from pairs of points to the greatest lag."""
+    told = list(net.arcs)
+    for i in range(len(net.tasks)):
+        ways = ways_by_words(net, case, i)
+        told.append((2 * i, 2 * i + 1, min(way[0] for way in ways)))
+        told.append((2 * i + 1, 2 * i, -max(way[1] for way in ways)))
+    told.extend((2 * i + 1, 2 * j, 0) for i, j in case[1])
+    lags = {}
+    for p, q, lag in told:
+        lags[p, q] = max(lag, lags.get((p, q), lag))
+    return lags
+
+
+def times_by_words(points, lags):
+    """The least times from 0 on that keep the arcs; None where there are none."""
+    times = [0] * points
+    for _ in range(points + 1):
+        before = list(times)
+        for (p, q), lag in lags.items():
+            times[q] = max(times[q], times[p] + lag)
+        if times == before:
+            return times
+    return None
+
+
+def clash_by_words(net, case, some):
+    """Whether the tasks clash in the case."""
+    if len(some) < 2 or len(set(some)) < len(some) or not set(some) <= set(range(len(net.tasks))):
+        return False
+    uses = {i: [{use[0]: use for use in way[2]} for way in ways_by_words(net, case, i)] for i in some}
+    for i, j in itertools.combinations(some, 2):
+        if (i, j) in net.apart or (j, i) in net.apart:
+            return True
+        if all(
+            any(one[tool][2] != other[tool][2] for tool in one if tool in other)
+            for one in uses[i]
+            for other in uses[j]
+        ):
+            return True
+    for tool, number in net.tools.items():
+        if sum(min(way[tool][1] if tool in way else 0 for way in uses[i]) for i in some) > number:
+            return True
+    return False
+
+
+def along(lags, chain):
+    """A chain's total by the lags; None where there is a gap."""
+    steps = [lags.get(step) for step in zip(chain, chain[1:])]
+    return None if None in steps else sum(steps)
+
+
+def bound_by_words(net, case, row):
+    """What a chain, ring or full row shows in the case; None where it shows nothing."""
+    lags, points, many = arcs_by_words(net, case), set(range(2 * len(net.tasks) + net.moments)), len(net.tasks)
+    if row[0] in ("chain", "ring"):
+        chain = row[1] if row[0] == "chain" else row[1] + row[1][:1]
+        if not set(chain) <= points or (row[0] == "ring" and not chain):
+            return None
+        return along(lags, chain)
+    _, tool, fronts, backs = row
+    if tool not in net.tools or not fronts or len(fronts) != len(backs) or [] in fronts + backs:
+        return None
+    ends = [(front[-1], back[0]) for front, back in zip(fronts, backs)]
+    tasks = [i for end in ends for i in range(many) if end == (2 * i, 2 * i + 1)]
+    if len(set(tasks)) < len(ends) or not all(set(chain) <= points for chain in fronts + backs):
+        return None
+    heads, tails = [along(lags, chain) for chain in fronts], [along(lags, chain) for chain in backs]
+    if None in heads + tails:
+        return None
+    work = 0
+    for i in tasks:
+        ways = ways_by_words(net, case, i)
+        work += min(way[0] * sum(use[1] for use in way[2] if use[0] == tool) for way in ways)
+    return min(heads) + min(tails) + (work + net.tools[tool] - 1) // net.tools[tool]
+
+
+def cases_met(net, paper):
+    """A list of tuples (case, row, bound), row by row as a paper is read; the bound None for split and ways rows. None
+    where a row is not right, or shows nothing, or where rows or cases are left."""
+    pile = [([None] * len(net.tasks), [])]
+    met = []
+    for row in paper:
+        if not pile:
+            return None
+        picks, orders = case = pile.pop()
+        bound = None
+        if row[0] == "split":
+            if not clash_by_words(net, case, row[1]) or any(set(pair) <= set(row[1]) for pair in orders):
+                return None
+            cases = [(picks, orders + [pair]) for pair in itertools.permutations(row[1], 2)]
+            pile.extend(reversed(cases))
+        elif row[0] == "ways":
+            i = row[1]
+            if i not in range(len(net.tasks)) or len(net.tasks[i]) < 2 or picks[i] is not None:
+                return None
+            cases = [(picks[:i] + [way] + picks[i + 1 :], orders) for way in (0, 1)]
+            pile.extend(reversed(cases))
+        else:
+            bound = bound_by_words(net, case, row)
+            if bound is None or (row[0] == "ring" and bound <= 0):
+                return None
+        met.append((case, row, bound))
+    return None if pile else met

@@ -112,6 +112,35 @@ class Form(unittest.TestCase):
                 if isinstance(node, (ast.For, ast.While)):
                     self.assertEqual(node.orelse, [])
 
+    def test_comprehensions_and_written_texts(self):
+        for name, node in nodes():
+            with self.subTest(file=name, line=getattr(node, "lineno", 0)):
+                if isinstance(node, ast.ListComp):
+                    self.assertEqual(len(node.generators), 1)
+                    self.assertLessEqual(len(node.generators[0].ifs), 1)
+                if isinstance(node, ast.FormattedValue):
+                    self.assertIsInstance(node.value, ast.Name)
+                    self.assertIsNone(node.format_spec)
+
+    def test_keywords(self):
+        allowed = {("sorted", "key"), ("sorted", "reverse"), ("min", "key"), ("min", "default"), ("max", "key")}
+        allowed |= {("max", "default"), ("sum", "start"), ("enumerate", "start"), ("zip", "strict")}
+        for name, node in nodes():
+            if isinstance(node, ast.Call):
+                for keyword in node.keywords:
+                    self.assertIn((ast.unparse(node.func), keyword.arg), allowed, (name, node.lineno))
+
+    def test_imports_are_used_and_not_given_another_meaning(self):
+        for name, tree in trees():
+            drawn = {alias.name for node in tree.body if isinstance(node, ast.ImportFrom) for alias in node.names}
+            names = [node for node in ast.walk(tree) if isinstance(node, ast.Name)]
+            with self.subTest(file=name):
+                self.assertEqual(drawn - {node.id for node in names}, set())
+                bound = {node.id for node in names if isinstance(node.ctx, ast.Store)}
+                bound |= {node.arg for node in ast.walk(tree) if isinstance(node, ast.arg)}
+                classes = {node.name for node in tree.body if isinstance(node, ast.ClassDef)}
+                self.assertEqual((drawn | classes) & bound, set())
+
     def test_imports_are_of_the_package_alone(self):
         for name, node in nodes():
             if isinstance(node, ast.ImportFrom):

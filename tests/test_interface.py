@@ -1,8 +1,9 @@
 import inspect
 import unittest
 
-from stovework import amounts, cases, chains, clashes, dishes, heaps, larders, names, needs, nets, packs, papers, parts
-from stovework import plans, ratios, reader, recipes, rosters, rows, stands, steps, stretches, wholes
+from stovework import amounts, cases, chains, clashes, desk, dishes, evenings, heaps, larders, meets, names, needs, nets
+from stovework import notes, packs, papers, parts, plans, ratios, reader, recipes, rosters, rows, seeker, stands, steps
+from stovework import stretches, wholes
 
 SIGNATURES = (
     (wholes.is_whole, "(thing)"),
@@ -85,6 +86,13 @@ SIGNATURES = (
     (papers.shuts, "(net, case, low, row)"),
     (papers.lets_by, "(net, low, paper)"),
     (papers.inner_rows, "(paper)"),
+    (meets.crowd, "(net, plan)"),
+    (seeker.seek, "(net, parts=200)"),
+    (evenings.Evening, "(tools, courses, size=None, spread=0, pause=0)"),
+    (notes.paper_text, "(paper)"),
+    (notes.read_paper, "(text)"),
+    (desk.Desk, "()"),
+    (desk.Desk.say, "(self, text)"),
 )
 
 

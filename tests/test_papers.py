@@ -3,7 +3,7 @@ import itertools
 import random
 import unittest
 
-from helping import all_chains, chance_case, chance_net, net_shown
+from helping import all_chains, chance_case, chance_net, net_shown, tight_net
 from stovework.cases import arcs_of, start_case
 from stovework.chains import chain_total, earliest_times, ring_total
 from stovework.clashes import clashes
@@ -387,17 +387,6 @@ def judged(net, low, case, rows):
         else:
             shut = inside and low is not None and total is not None and total >= low
     return rows[1:] if shut else None
-
-
-def tight_net(chance, most_tasks, moments):
-    """A small net in which runs have little room, so that now and then nothing fits."""
-    net = chance_net(chance, most_tasks)
-    points = 2 * len(net.tasks) + (net.moments if moments else 0)
-    arcs = [arc for arc in net.arcs if max(arc[:2]) < points]
-    if points > 1:
-        for _ in range(chance.randint(0, 4)):
-            arcs.append((*chance.sample(range(points), 2), chance.randint(-4, 2)))
-    return Net(net.tools, net.tasks, arcs, net.apart, net.moments if moments else 0)
 
 
 def chance_shut(chance, net, case):
